@@ -1,0 +1,1 @@
+"""Numberbooks: blocks of numbers that servers take in turn."""
