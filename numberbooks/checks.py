@@ -1,11 +1,13 @@
 """What arguments have to be, and the errors for those that are something else."""
 
-from numberbooks.errors import InvalidBlock, InvalidEntries, InvalidNumber, InvalidServer, InvalidServers, InvalidSize
+from numberbooks.errors import InvalidBlock, InvalidEntries, InvalidEvents, InvalidNumber, InvalidServer
+from numberbooks.errors import InvalidServers, InvalidSize
 
 GREATEST_SIZE = 10 ** 30
 MOST_SERVERS = 12
 MOST_LETTERS = 8
 MOST_ENTRIES = 200
+MOST_EVENTS = 1000
 
 
 def is_integer(thing):
@@ -38,6 +40,14 @@ def is_entry(servers, thing):
     return is_server(servers, server) and is_natural(number)
 
 
+def is_event(servers, thing):
+    """Whether any object is a tuple ("take", server) or ("use", server) with one of these servers."""
+    if not isinstance(thing, tuple) or len(thing) != 2:
+        return False
+    kind, server = thing
+    return isinstance(kind, str) and kind in ("take", "use") and is_server(servers, server)
+
+
 def check_size(size):
     """Raise InvalidSize if any object is no size."""
     if not is_integer(size) or not 1 <= size <= GREATEST_SIZE:
@@ -60,6 +70,14 @@ def check_entries(servers, entries):
         raise InvalidEntries("entries are a list of 0 to 200 tuples")
     if not all([is_entry(servers, entry) for entry in entries]):
         raise InvalidEntries("an entry is a tuple of one of the servers and an integer from 0 on")
+
+
+def check_events(servers, events):
+    """Raise InvalidEvents if any object is no list of events of these servers, allowed in their places or not."""
+    if not isinstance(events, list) or len(events) > MOST_EVENTS:
+        raise InvalidEvents("events are a list of 0 to 1,000 tuples")
+    if not all([is_event(servers, event) for event in events]):
+        raise InvalidEvents("an event is a tuple of take or use and one of the servers")
 
 
 def check_server(servers, server):

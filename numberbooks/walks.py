@@ -68,6 +68,12 @@ class Sight:
             following = block + 1
         return starts
 
+    def whole_spans(self):
+        """The tuples (first, last) of the blocks of each span; the last span is block M alone."""
+        starts = self.span_starts()
+        ends = [start - 1 for start in starts[1:]] + starts[-1:]
+        return list(zip(starts, ends))
+
     def span_index(self, block):
         """The index of the span with this block, from 0 to M."""
         return len([start for start in self.span_starts() if start <= block]) - 1
@@ -237,18 +243,22 @@ def steps_ascend(steps):
 
 def earliest(log, block):
     """The earliest slot in which a block from 0 to M can have been taken."""
-    check_block_up_to(block, log.last_block())
-    check_possible(log)
+    check_asked(log, block)
     sight = sight_of(log)
     return sight.earliest_slots()[sight.span_index(block)]
 
 
 def latest(log, block):
     """The latest slot in which a block from 0 to M can have been taken."""
-    check_block_up_to(block, log.last_block())
-    check_possible(log)
+    check_asked(log, block)
     sight = sight_of(log)
     return sight.latest_slots()[sight.span_index(block)]
+
+
+def check_asked(log, block):
+    """Raise InvalidBlock for a block that is not from 0 to M, then NotPossible if the log has an obstacle."""
+    check_block_up_to(block, log.last_block())
+    check_possible(log)
 
 
 def check_possible(log):

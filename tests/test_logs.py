@@ -7,6 +7,7 @@ from numberbooks import logs
 from numberbooks.errors import InvalidEntries, InvalidLog, InvalidNumber, InvalidServer, InvalidServers, InvalidSize
 from numberbooks.logs import Log, LosingLog
 from tests.objects import any_objects
+from tests.raising import Raising
 
 BOTH = (Log, LosingLog)
 SERVERS = ["ann", "bob"]
@@ -16,13 +17,6 @@ TWELVE = list("abcdefghijkl")
 
 def full(make=Log, count=200):
     return make(10, SERVERS, [(SERVERS[k % 2], k) for k in range(count)])
-
-
-class Raising(unittest.TestCase):
-    def raises(self, kind, call, *given, **named):
-        with self.assertRaises(kind) as caught:
-            call(*given, **named)
-        self.assertIs(caught.exception.__class__, kind)
 
 
 class Made(Raising):

@@ -6,12 +6,11 @@ import unittest
 from numberbooks.errors import NotPossible
 from numberbooks.logs import Log, LosingLog
 from numberbooks.walks import earliest, latest, obstacle, shows_obstacle, window
-from tests.tried import Tried, all_logs, has_pair, plain_earliest, plain_latest, plain_window, shows
+from tests.all_logs import KINDS, AllLogs
+from tests.tried import Tried, has_pair, plain_earliest, plain_latest, plain_window, random_entries, shows
 
-KINDS = ((Log, False), (LosingLog, True))
 
-
-class AgainstAllHistories(unittest.TestCase):
+class AgainstAllHistories(AllLogs):
     def check_log(self, make, losing, size, servers, entries):
         log = make(size, servers, entries)
         tried = Tried(size, servers, entries, losing)
@@ -41,12 +40,6 @@ class AgainstAllHistories(unittest.TestCase):
                     ask(log, block)
                 self.assertIs(caught.exception.__class__, NotPossible)
                 self.assertEqual(caught.exception.obstacle, found)
-
-    def check_all(self, size, servers, numbers, most):
-        for make, losing in KINDS:
-            possible = sum([self.check_log(make, losing, size, servers, entries)
-                            for entries in all_logs(servers, numbers, most)])
-            self.assertGreater(possible, 1)
 
     def test_one_server(self):
         self.check_all(1, ["ann"], 5, 3)
@@ -156,18 +149,6 @@ def wide_block(block):
     The hidden blocks that this puts below a seen one change no slot: its holder has the same window for them.
     """
     return block * 10 ** 25
-
-
-def random_entries(chance, size, servers, count, blocks):
-    """Entries without a certificate of two: each block has one holder, and each server's numbers ascend."""
-    holders = [chance.choice(servers) for _ in range(blocks)]
-    numbers = sorted(chance.sample(range(blocks * size), min(count, blocks * size)))
-    queues = {server: [n for n in numbers if holders[n // size] == server] for server in servers}
-    entries = []
-    while any(queues.values()):
-        server = min([s for s in servers if queues[s]], key=lambda s: queues[s][0] + chance.randint(0, 3 * size))
-        entries.append((server, queues[server].pop(0)))
-    return entries
 
 
 if __name__ == "__main__":

@@ -10,6 +10,7 @@ from numberbooks.errors import InvalidBlock, InvalidServer, NotPossible
 from numberbooks.logs import Log, LosingLog
 from numberbooks.walks import earliest, latest, obstacle, shows_obstacle, window
 from tests.objects import any_objects
+from tests.raising import Raising
 from tests.tried import Tried, has_pair, is_pair, is_pushed, plain_window, shows
 
 BOTH = (Log, LosingLog)
@@ -18,14 +19,6 @@ TWELVE = list("abcdefghijkl")
 # Block 1 is ann's, after entry 1 with her block 0; block 2 is taken before entry 0.
 PUSHED = [("bob", 25), ("ann", 5), ("ann", 15)]
 GREAT = 10 ** 60 - 1
-
-
-class Raising(unittest.TestCase):
-    def raises(self, kind, call, *given, **named):
-        with self.assertRaises(kind) as caught:
-            call(*given, **named)
-        self.assertIs(caught.exception.__class__, kind)
-        return caught.exception
 
 
 class Interface(Raising):

@@ -14,6 +14,18 @@ def all_logs(servers, numbers, most):
             yield list(entries)
 
 
+def random_entries(chance, size, servers, count, blocks):
+    """Entries without a certificate of two: each block has one holder, and each server's numbers ascend."""
+    holders = [chance.choice(servers) for _ in range(blocks)]
+    numbers = sorted(chance.sample(range(blocks * size), min(count, blocks * size)))
+    queues = {server: [n for n in numbers if holders[n // size] == server] for server in servers}
+    entries = []
+    while any(queues.values()):
+        server = min([s for s in servers if queues[s]], key=lambda s: queues[s][0] + chance.randint(0, 3 * size))
+        entries.append((server, queues[server].pop(0)))
+    return entries
+
+
 class Tried:
     """All histories of a few blocks that show these entries.
 
@@ -26,30 +38,35 @@ class Tried:
         self.servers = servers
         self.entries = entries
         self.losing = losing
-        self.limit = max([number // size for _, number in entries], default=-1) + 1 + spare
+        self.greatest = max([number // size for _, number in entries], default=-1)
+        self.limit = self.greatest + 1 + spare
         self.ends = {}
         self.takes = set()
-        start = (0, 0, (None,) * len(servers))
-        self.possible = self.can_end(start)
+        self.start = (0, 0, (None,) * len(servers))
+        self.possible = self.can_end(self.start)
         if self.possible:
-            self.collect(start)
+            self.collect()
 
     def steps(self, state):
-        """The events that can follow a state, as tuples (next state, block and server that is taken, or None)."""
+        """The tuples (next state, event) that can follow a state.
+
+        Events are ("take", block, server, slot), ("use", number) and ("lose", server).
+        """
         shown, taken, hands = state
         for place, server in enumerate(self.servers):
             hand = hands[place]
             if hand is None:
                 if taken < self.limit:
-                    yield (shown, taken + 1, with_hand(hands, place, taken * self.size)), (taken, server, shown)
+                    after = with_hand(hands, place, taken * self.size)
+                    yield (shown, taken + 1, after), ("take", taken, server, shown)
                 continue
             following = None if (hand + 1) % self.size == 0 else hand + 1
             after = with_hand(hands, place, following)
-            yield (shown, taken, after), None
+            yield (shown, taken, after), ("use", hand)
             if shown < len(self.entries) and self.entries[shown] == (server, hand):
-                yield (shown + 1, taken, after), None
+                yield (shown + 1, taken, after), ("use", hand)
             if self.losing:
-                yield (shown, taken, with_hand(hands, place, None)), None
+                yield (shown, taken, with_hand(hands, place, None)), ("lose", server)
 
     def can_end(self, state):
         """Whether all entries can be shown from this state on."""
@@ -59,23 +76,66 @@ class Tried:
             self.ends[state] = any([self.can_end(after) for after, _ in self.steps(state)])
         return self.ends[state]
 
-    def collect(self, start):
+    def collect(self):
         """Keep each (block, server, slot) with which a block is taken in a history that shows the entries."""
-        seen = {start}
-        waiting = [start]
+        for _, event in self.reached(lambda event: True):
+            if event is not None and event[0] == "take":
+                self.takes.add(event[1:])
+
+    def reached(self, allowed):
+        """The tuples (state, event before it) of all histories that have allowed events and go on to show all."""
+        seen = {self.start}
+        waiting = [self.start]
+        found = [(self.start, None)]
         while waiting:
-            for after, take in self.steps(waiting.pop()):
-                if not self.can_end(after):
+            for after, event in self.steps(waiting.pop()):
+                if not self.can_end(after) or not allowed(event):
                     continue
-                if take is not None:
-                    self.takes.add(take)
+                found.append((after, event))
                 if after not in seen:
                     seen.add(after)
                     waiting.append(after)
+        return found
+
+    def shows_with(self, allowed):
+        """Whether the entries are shown by a history that has allowed events only."""
+        return any([state[0] == len(self.entries) for state, _ in self.reached(allowed)])
 
     def slots(self, block):
         """The slots in which some server takes the block in some history."""
         return [slot for taken, _, slot in self.takes if taken == block]
+
+    def is_always_used(self, number):
+        """Whether no history that shows the entries goes without this number."""
+        return not self.shows_with(lambda event: event != ("use", number))
+
+    def ends_with(self, server, block):
+        """Whether in some history this server takes this block and none of the later ones up to M."""
+        def allowed(event):
+            if event[0] != "take" or event[1] > self.greatest:
+                return True
+            if event[1] == block:
+                return event[2] == server
+            return event[1] < block or event[2] != server
+
+        return self.shows_with(allowed)
+
+    def lists(self):
+        """The sorted lists of owners of the blocks 0 to M, as tuples of the positions of the servers."""
+        first = (self.start, ())
+        seen = {first}
+        waiting = [first]
+        while waiting:
+            state, owners = waiting.pop()
+            for after, event in self.steps(state):
+                more = owners
+                if event[0] == "take" and event[1] <= self.greatest:
+                    more = owners + (self.servers.index(event[2]),)
+                if self.can_end(after) and (after, more) not in seen:
+                    seen.add((after, more))
+                    waiting.append((after, more))
+        return sorted({owners for state, owners in seen if len(owners) == self.greatest + 1
+                       and state[0] == len(self.entries)})
 
 
 def with_hand(hands, place, hand):
@@ -169,3 +229,40 @@ def plain_latest(size, servers, entries):
         following = max([k for k in in_some_window(size, servers, entries, block) if k <= following])
         found.append(following)
     return found[::-1]
+
+
+def plain_uses(size, servers, events):
+    """The uses of a list of events by the words of point 3, or None if it is not allowed."""
+    uses = []
+    taken = 0
+    left = {server: [] for server in servers}
+    for kind, server in events:
+        if kind == "take" and not left[server]:
+            left[server] = list(range(taken * size, taken * size + size))
+            taken = taken + 1
+        elif kind == "use" and left[server]:
+            uses.append((server, left[server].pop(0)))
+        else:
+            return None
+    return uses
+
+
+def is_part(entries, uses):
+    """Whether these entries are some of the uses, in their sequence."""
+    rest = iter(uses)
+    return all([entry in rest for entry in entries])
+
+
+def plain_lists(size, servers, entries):
+    """The possible lists of owners of an R1 log, ascending: each list with which slots fit the windows, one by one."""
+    lists = [((), 0)]
+    for block in range(max([number // size for _, number in entries], default=-1) + 1):
+        longer = []
+        for owners, slot in lists:
+            for server in servers:
+                low, high = plain_window(size, entries, server, block) or (1, 0)
+                fitting = [k for k in range(slot, len(entries) + 1) if low <= k <= high]
+                if fitting:
+                    longer.append((owners + (server,), fitting[0]))
+        lists = longer
+    return [list(owners) for owners, _ in lists]
