@@ -8,6 +8,7 @@ MOST_SERVERS = 12
 MOST_LETTERS = 8
 MOST_ENTRIES = 200
 MOST_EVENTS = 1000
+MOST_DIGITS = 60
 
 
 def is_integer(thing):
@@ -20,11 +21,23 @@ def is_natural(thing):
     return is_integer(thing) and thing >= 0
 
 
+def is_size(thing):
+    """Whether any object is a size: an integer from 1 to 10 ** 30."""
+    return is_integer(thing) and 1 <= thing <= GREATEST_SIZE
+
+
 def is_name(thing):
     """Whether any object is a name of a server: one to eight lowercase letters."""
     if not isinstance(thing, str) or len(thing) > MOST_LETTERS:
         return False
     return thing.isascii() and thing.isalpha() and thing.islower()
+
+
+def are_servers(thing):
+    """Whether any object is a list of servers: 1 to 12 different names."""
+    if not isinstance(thing, list) or not 1 <= len(thing) <= MOST_SERVERS:
+        return False
+    return all([is_name(name) for name in thing]) and len(set(thing)) == len(thing)
 
 
 def is_server(servers, thing):
@@ -50,18 +63,14 @@ def is_event(servers, thing):
 
 def check_size(size):
     """Raise InvalidSize if any object is no size."""
-    if not is_integer(size) or not 1 <= size <= GREATEST_SIZE:
+    if not is_size(size):
         raise InvalidSize("a size is an integer from 1 to 10 ** 30")
 
 
 def check_servers(servers):
     """Raise InvalidServers if any object is no list of servers."""
-    if not isinstance(servers, list) or not 1 <= len(servers) <= MOST_SERVERS:
-        raise InvalidServers("servers are a list of 1 to 12 names")
-    if not all([is_name(name) for name in servers]):
-        raise InvalidServers("a name is a string of one to eight lowercase letters")
-    if len(set(servers)) < len(servers):
-        raise InvalidServers("the names of servers are different")
+    if not are_servers(servers):
+        raise InvalidServers("servers are a list of 1 to 12 different names, each of one to eight lowercase letters")
 
 
 def check_entries(servers, entries):

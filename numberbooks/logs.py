@@ -86,3 +86,13 @@ def new_log(kind, size, servers, entries):
     if kind == LosingLog.KIND:
         return LosingLog(size, servers, entries)
     return Log(size, servers, entries)
+
+
+def log_of_any_length(kind, size, servers, entries):
+    """The log of a kind with entries that are valid, also more than 200.
+
+    A live log may be used for more calls than it is meant for, and no error may come of this.
+    """
+    log = new_log(kind, size, servers, [])
+    log._entries = list(entries)
+    return log

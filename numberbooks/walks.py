@@ -263,6 +263,11 @@ def check_asked(log, block):
 
 def check_possible(log):
     """Raise NotPossible with the obstacle of the log, if it has one."""
-    found = obstacle(log)
+    check_entries_possible(log.size, log.servers, log.entries)
+
+
+def check_entries_possible(size, servers, entries):
+    """Raise NotPossible with the obstacle of any number of entries, if they have one."""
+    found = find_obstacle(size, servers, entries)
     if found is not None:
         raise NotPossible(found)

@@ -11,14 +11,8 @@ from numberbooks.owners import owners_of, slots_of, stretches, sure_owner
 from numberbooks.sure import can_end, is_sure, sure_numbers
 from numberbooks.walks import obstacle
 from tests.all_logs import KINDS, AllLogs
-from tests.tried import Tried, all_logs, is_part, plain_earliest, plain_lists, plain_uses, random_entries
-
-
-def ranges_of(numbers):
-    """The tuples (first, last) of neighbouring numbers, as few as possible."""
-    firsts = [n for n in numbers if n - 1 not in numbers]
-    lasts = [n for n in numbers if n + 1 not in numbers]
-    return list(zip(firsts, lasts))
+from tests.tried import Tried, all_logs, is_part, narrow_entries, plain_earliest, plain_lists, plain_uses
+from tests.tried import random_entries, ranges_of, wide_places
 
 
 def joined_blocks(rows):
@@ -175,25 +169,15 @@ class ManyHiddenBlocks(unittest.TestCase):
         possible = 0
         for _ in range(400):
             servers = ["b", "a", "c"][:chance.randint(1, 3)]
-            entries = self.narrow_entries(chance, servers)
+            entries = narrow_entries(chance, servers)
             if plain_earliest(1, servers, entries) is not None:
                 self.check(chance.choice((Log, LosingLog)), chance.choice((1, 3, 10 ** 30)), servers, entries)
                 possible = possible + 1
         self.assertGreater(possible, 100)
 
-    def narrow_entries(self, chance, servers):
-        """Entries of blocks of one number, with gaps of none or of three hidden blocks between the seen ones."""
-        entries = random_entries(chance, 1, servers, chance.randint(1, 5), 5)
-        places = {}
-        following = 0
-        for number in sorted([number for _, number in entries]):
-            places[number] = following + chance.choice((0, 3))
-            following = places[number] + 1
-        return [(server, places[number]) for server, number in entries]
-
     def check(self, make, size, servers, entries):
         narrow = make(1, servers, entries)
-        places = self.wide_places(narrow)
+        places = wide_places(entries)
         log = make(size, servers, [(server, places[block][0] * size) for server, block in entries])
         for block in range(narrow.last_block() + 1):
             for there in places[block]:
@@ -225,19 +209,6 @@ class ManyHiddenBlocks(unittest.TestCase):
         for first, last in ranges:
             for number, sure in ((first - 1, False), (first, True), (last, True), (last + 1, False)):
                 self.assertIs(is_sure(log, number), sure)
-
-    def wide_places(self, narrow):
-        """For each block of the narrow log some blocks of the wide one, the first and the last one among them."""
-        seen = [number for _, number in narrow.entries]
-        places = {}
-        following = 0
-        for block in range(narrow.last_block() + 1):
-            places[block] = [following]
-            # The middle one of three hidden blocks stands for very many.
-            if block not in seen and (block - 1) not in seen and (block + 1) not in seen and block > 0:
-                places[block] = [following, following + 1, following + 10 ** 25, following + 10 ** 28 - 1]
-            following = places[block][-1] + 1
-        return places
 
 
 class AllEvents(unittest.TestCase):

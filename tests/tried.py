@@ -26,8 +26,33 @@ def random_entries(chance, size, servers, count, blocks):
     return entries
 
 
-class Tried:
-    """All histories of a few blocks that show these entries.
+def narrow_entries(chance, servers):
+    """Entries of blocks of one number, with gaps of none or of three hidden blocks between the seen ones."""
+    entries = random_entries(chance, 1, servers, chance.randint(1, 5), 5)
+    places = {}
+    following = 0
+    for number in sorted([number for _, number in entries]):
+        places[number] = following + chance.choice((0, 3))
+        following = places[number] + 1
+    return [(server, places[number]) for server, number in entries]
+
+
+def wide_places(entries):
+    """For each block of such entries some blocks of a wide log, the first and the last one among them."""
+    seen = [number for _, number in entries]
+    places = {}
+    following = 0
+    for block in range(max(seen) + 1):
+        places[block] = [following]
+        # The middle one of three hidden blocks stands for very many.
+        if block not in seen and (block - 1) not in seen and (block + 1) not in seen and block > 0:
+            places[block] = [following, following + 1, following + 10 ** 25, following + 10 ** 28 - 1]
+        following = places[block][-1] + 1
+    return places
+
+
+class Shown:
+    """Whether a history of a few blocks shows these entries.
 
     A state is (k, taken, hands): the first k entries are shown, so many blocks are taken, and hands has for each
     server the number that it uses next, or None if it may take a block.
@@ -41,11 +66,8 @@ class Tried:
         self.greatest = max([number // size for _, number in entries], default=-1)
         self.limit = self.greatest + 1 + spare
         self.ends = {}
-        self.takes = set()
         self.start = (0, 0, (None,) * len(servers))
         self.possible = self.can_end(self.start)
-        if self.possible:
-            self.collect()
 
     def steps(self, state):
         """The tuples (next state, event) that can follow a state.
@@ -75,6 +97,16 @@ class Tried:
         if state not in self.ends:
             self.ends[state] = any([self.can_end(after) for after, _ in self.steps(state)])
         return self.ends[state]
+
+
+class Tried(Shown):
+    """All histories of a few blocks that show these entries."""
+
+    def __init__(self, size, servers, entries, losing, spare=1):
+        Shown.__init__(self, size, servers, entries, losing, spare)
+        self.takes = set()
+        if self.possible:
+            self.collect()
 
     def collect(self):
         """Keep each (block, server, slot) with which a block is taken in a history that shows the entries."""
@@ -136,6 +168,13 @@ class Tried:
                     waiting.append((after, more))
         return sorted({owners for state, owners in seen if len(owners) == self.greatest + 1
                        and state[0] == len(self.entries)})
+
+
+def ranges_of(numbers):
+    """The tuples (first, last) of neighbouring numbers, as few as possible."""
+    firsts = [n for n in numbers if n - 1 not in numbers]
+    lasts = [n for n in numbers if n + 1 not in numbers]
+    return list(zip(firsts, lasts))
 
 
 def with_hand(hands, place, hand):
